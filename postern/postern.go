@@ -4,6 +4,7 @@ package postern
 import (
 	"postern/api"
 	"postern/hash"
+	"postern/paper"
 	"postern/signing"
 )
 
@@ -35,34 +36,25 @@ func Right(key string, text string, signature string) bool {
 func All(checks []api.Check) []bool { return askAll(checks) }
 
 // Ticket signs a ticket (P5).
-func Ticket(seed string, t api.Ticket) (string, api.Errno) { return "", api.OK }
+func Ticket(seed string, t api.Ticket) (string, api.Errno) {
+	if len(seed) != signing.SeedSize {
+		return "", api.ErrSize
+	}
+	if !within(t.Epoch, api.MaxEpoch) || !within(t.Serial, api.MaxSerial) || !within(t.Class, api.MaxClass) {
+		return "", api.ErrNumber
+	}
+	return paper.Ticket(seed, t), api.OK
+}
 
 // Order signs an order (P5).
-func Order(seed string, epoch int) (string, api.Errno) { return "", api.OK }
+func Order(seed string, epoch int) (string, api.Errno) {
+	if len(seed) != signing.SeedSize {
+		return "", api.ErrSize
+	}
+	if !within(epoch, api.MaxEpoch) {
+		return "", api.ErrNumber
+	}
+	return paper.Order(seed, epoch), api.OK
+}
 
-// Gate lets people in.
-type Gate struct{}
-
-// New makes a gate (P6).
-func New(number int, key string) (*Gate, api.Errno) { return nil, api.OK }
-
-// Admit lets a ticket in (P6).
-func (g *Gate) Admit(ticket string) api.Errno { return api.OK }
-
-// Close takes an order (P7).
-func (g *Gate) Close(order string) api.Errno { return api.OK }
-
-// Look tells how the gate stands (P7).
-func (g *Gate) Look() api.State { return api.State{} }
-
-// Digest tells what it has heard of (P8).
-func (g *Gate) Digest() api.Digest { return api.Digest{} }
-
-// Tell tells news (P8).
-func (g *Gate) Tell(d api.Digest, most int) (api.News, api.Errno) { return api.News{}, api.OK }
-
-// Hear hears them (P8).
-func (g *Gate) Hear(n api.News) api.Errno { return api.OK }
-
-// Twice tells what was let in more than once (P9).
-func (g *Gate) Twice() []api.Twice { return nil }
+func within(n int, most int) bool { return 0 <= n && n <= most }
