@@ -2,6 +2,7 @@ package book
 
 import (
 	"math/rand"
+	"slices"
 	"testing"
 )
 
@@ -70,6 +71,66 @@ func TestForgettingByChance(t *testing.T) {
 		}
 		if b.Heard() != len(passes) || b.Held() != held || b.Floor() != floor {
 			t.Fatalf("P7: floor %d: %d heard of, %d held, want %d, %d", floor, b.Heard(), b.Held(), len(passes), held)
+		}
+	}
+}
+
+func TestNote(t *testing.T) {
+	var b Book
+	b.Note(Admission{2, 7})
+	if !b.Has(Admission{2, 7}) || b.Has(Admission{7, 2}) || b.Has(Admission{}) || b.Heard() != 1 || b.Held() != 0 || b.Used(Pass{}) {
+		t.Errorf("P8: a book with a note: %+v", b)
+	}
+	if p, ok := b.Pass(Admission{2, 7}); ok || p != (Pass{}) {
+		t.Errorf("P8: the pass of a note: %+v, %v", p, ok)
+	}
+	b.Add(Admission{2, 8}, Pass{3, 4})
+	if p, ok := b.Pass(Admission{2, 8}); !ok || p != (Pass{3, 4}) || !b.Has(Admission{2, 8}) || b.Heard() != 2 || b.Held() != 1 {
+		t.Errorf("P8: a note and an admission: %+v", b)
+	}
+	b.Raise(4)
+	if p, ok := b.Pass(Admission{2, 8}); ok || p != (Pass{}) || !b.Has(Admission{2, 8}) || b.Heard() != 2 {
+		t.Errorf("P8: with the floor above it: %+v", b)
+	}
+}
+
+func TestListsOfAnEmptyBook(t *testing.T) {
+	var b Book
+	if len(b.Admissions()) != 0 || len(b.Entries()) != 0 || b.Has(Admission{}) {
+		t.Errorf("P8: an empty book: %+v", b)
+	}
+}
+
+func TestListsAreSorted(t *testing.T) {
+	r := rand.New(rand.NewSource(4))
+	for range 20 {
+		var b Book
+		var admissions []Admission
+		var entries []Entry
+		for gate := range 4 {
+			for number := 1; number < 9; number++ {
+				a := Admission{gate, number}
+				admissions = append(admissions, a)
+				p := Pass{number * gate % 3, (number + gate) % 2}
+				entries = append(entries, Entry{a, p})
+			}
+		}
+		slices.SortStableFunc(entries, func(x, y Entry) int { return (x.Epoch*10 + x.Serial) - (y.Epoch*10 + y.Serial) })
+		for _, i := range r.Perm(len(entries)) {
+			b.Add(entries[i].Admission, entries[i].Pass)
+		}
+		if l := b.Admissions(); !slices.Equal(l, admissions) {
+			t.Fatalf("P8: Admissions() = %+v", l)
+		}
+		if l := b.Entries(); !slices.Equal(l, entries) {
+			t.Fatalf("P9: Entries() = %+v, want %+v", l, entries)
+		}
+		b.Raise(1)
+		if l := b.Admissions(); !slices.Equal(l, admissions) {
+			t.Fatalf("P8: Admissions() with a floor = %+v", l)
+		}
+		if l := b.Entries(); !slices.Equal(l, slices.DeleteFunc(entries, func(e Entry) bool { return e.Epoch < 1 })) {
+			t.Fatalf("P9: Entries() with a floor = %+v", l)
 		}
 	}
 }

@@ -5,6 +5,7 @@ import (
 
 	"postern/api"
 	"postern/book"
+	"postern/bounds"
 	"postern/curve"
 	"postern/paper"
 )
@@ -15,11 +16,13 @@ type Gate struct {
 	key    string
 	own    int
 	book   book.Book
+	// order is the text by which the floor came to be: other gates take its word for it, not this one's.
+	order string
 }
 
 // New makes a gate (P6).
 func New(number int, key string) (*Gate, api.Errno) {
-	if !within(number, api.MaxGate) {
+	if !bounds.Gate(number) {
 		return nil, api.ErrNumber
 	}
 	if _, ok := curve.FromBytes(key); !ok {
@@ -65,8 +68,13 @@ func (g *Gate) Close(order string) api.Errno {
 	if epoch <= g.book.Floor() {
 		return api.ErrOver
 	}
-	g.book.Raise(epoch)
+	g.raise(epoch, order)
 	return api.OK
+}
+
+func (g *Gate) raise(epoch int, order string) {
+	g.book.Raise(epoch)
+	g.order = strings.Clone(order)
 }
 
 // Look tells how the gate stands (P7).
@@ -77,19 +85,7 @@ func (g *Gate) Look() api.State {
 	return api.State{Floor: g.book.Floor(), Own: g.own, Known: g.book.Heard(), Held: g.book.Held()}
 }
 
-// Digest tells what it has heard of (P8).
-func (g *Gate) Digest() api.Digest { return api.Digest{} }
-
-// Tell tells news (P8).
-func (g *Gate) Tell(d api.Digest, most int) (api.News, api.Errno) { return api.News{}, api.OK }
-
-// Hear hears them (P8).
-func (g *Gate) Hear(n api.News) api.Errno { return api.OK }
-
-// Twice tells what was let in more than once (P9).
-func (g *Gate) Twice() []api.Twice { return nil }
-
-// trusts tells whether the paper is rightly signed. A gate that New did not make has no key: it trusts none, and so is never changed.
+// trusts tells whether the paper is rightly signed. A gate that New did not make has no key: it trusts none.
 func (g *Gate) trusts(text string) bool {
 	return g != nil && paper.Right(g.key, text)
 }

@@ -3,6 +3,7 @@ package postern
 
 import (
 	"postern/api"
+	"postern/bounds"
 	"postern/hash"
 	"postern/paper"
 	"postern/signing"
@@ -40,7 +41,7 @@ func Ticket(seed string, t api.Ticket) (string, api.Errno) {
 	if len(seed) != signing.SeedSize {
 		return "", api.ErrSize
 	}
-	if !within(t.Epoch, api.MaxEpoch) || !within(t.Serial, api.MaxSerial) || !within(t.Class, api.MaxClass) {
+	if !bounds.Epoch(t.Epoch) || !bounds.Serial(t.Serial) || !bounds.Class(t.Class) {
 		return "", api.ErrNumber
 	}
 	return paper.Ticket(seed, t), api.OK
@@ -51,10 +52,8 @@ func Order(seed string, epoch int) (string, api.Errno) {
 	if len(seed) != signing.SeedSize {
 		return "", api.ErrSize
 	}
-	if !within(epoch, api.MaxEpoch) {
+	if !bounds.Epoch(epoch) {
 		return "", api.ErrNumber
 	}
 	return paper.Order(seed, epoch), api.OK
 }
-
-func within(n int, most int) bool { return 0 <= n && n <= most }
